@@ -1,33 +1,6 @@
 """What several tests need: small wires, everything that is told, chance made by rows of numbers."""
 
-from wirenames.errors import (
-    Came,
-    Claimed,
-    Due,
-    Early,
-    IsOn,
-    NoBounds,
-    NoClaim,
-    NoHand,
-    NoHands,
-    NoLess,
-    NoLetter,
-    NoMark,
-    NoName,
-    NoNext,
-    NoPaper,
-    NoRule,
-    NoSaying,
-    NoScript,
-    NotEmpty,
-    NotOn,
-    NoTries,
-    NoWire,
-    Owed,
-    SameWire,
-    TooMany,
-    WireError,
-)
+from wirenames.errors import IsOn, NoHand, NoLetter, NotOn, NoWire, WireError
 from wirenames.rules import Bounds, Rule, least_rule
 from wirenames.wires import Wires
 
@@ -110,13 +83,6 @@ def lonely_ticks(wires, many):
     """Ticks at which no copy may be on its way for longer than it can be late."""
     for _ in range(many):
         wires.tick()
-
-
-def clear_way(wires):
-    """Ticks till all that is on its way has come."""
-    while len(wires):
-        wires.tick()
-        hear_all(wires)
 
 
 def told(wires):

@@ -5,9 +5,6 @@ import unittest
 from tests.helper import (
     BOUNDS,
     Chance,
-    Claimed,
-    NoClaim,
-    TooMany,
     hear_all,
     letters,
     numbers,
@@ -16,6 +13,7 @@ from tests.helper import (
     told,
     wires_of,
 )
+from wirenames.errors import Claimed, NoClaim, TooMany
 from wirenames.rules import Bounds, claiming_time
 from wirenames.wires import Wires
 

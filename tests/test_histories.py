@@ -2,7 +2,7 @@
 
 import unittest
 
-from tests.helper import REFUSALS, Chance, hear_all, lonely_ticks, numbers
+from tests.helper import Chance, hear_all, lonely_ticks, numbers, REFUSALS
 from wirenames.errors import Owed
 from wirenames.rules import Bounds, Rule, asking_time, claiming_time, least_rule, mending_time
 from wirenames.wires import Wires

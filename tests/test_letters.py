@@ -2,21 +2,8 @@
 
 import unittest
 
-from tests.helper import (
-    BOUNDS,
-    Came,
-    Due,
-    Early,
-    NoLetter,
-    Owed,
-    any_things,
-    hear_all,
-    letters,
-    numbers,
-    rule_of,
-    told,
-    wires_of,
-)
+from tests.helper import any_things, BOUNDS, hear_all, letters, numbers, rule_of, told, wires_of
+from wirenames.errors import Came, Due, Early, NoLetter, Owed
 from wirenames.rules import Bounds
 from wirenames.wires import Wires
 

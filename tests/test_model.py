@@ -2,7 +2,7 @@
 
 import unittest
 
-from tests.helper import REFUSALS, Chance, replay, told
+from tests.helper import Chance, REFUSALS, replay, told
 from tests.model import Model, Refused
 from wirenames.errors import Due
 from wirenames.rules import Bounds, Rule, asking_time, claiming_time, least_rule

@@ -3,11 +3,18 @@
 import unittest
 
 from tests.helper import (
+    any_things,
     BOUNDS,
     BOUNDS_AND_RULES,
     LEAST,
     LONG,
+    pass_ticks,
+    rule_of,
     STRANGE,
+    told,
+    wires_of,
+)
+from wirenames.errors import (
     Came,
     Claimed,
     Early,
@@ -27,11 +34,6 @@ from tests.helper import (
     Owed,
     SameWire,
     TooMany,
-    any_things,
-    pass_ticks,
-    rule_of,
-    told,
-    wires_of,
 )
 from wirenames.rules import Bounds, Rule
 from wirenames.wires import Wires

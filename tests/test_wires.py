@@ -4,14 +4,8 @@ import unittest
 
 from tests.helper import (
     BOUNDS,
-    LEAST,
-    Claimed,
-    IsOn,
-    NoHands,
-    NotEmpty,
-    NotOn,
-    SameWire,
     hear_all,
+    LEAST,
     letters,
     lonely_ticks,
     numbers,
@@ -21,6 +15,7 @@ from tests.helper import (
     told,
     wires_of,
 )
+from wirenames.errors import Claimed, IsOn, NoHands, NotEmpty, NotOn, SameWire
 from wirenames.rules import Bounds, least_rule, mending_time
 from wirenames.wires import Wires
 
