@@ -2,9 +2,15 @@
 
 import ast
 import builtins
+import inspect
 import pathlib
 import re
 import unittest
+
+from wirenames.desk import Desk
+from wirenames.looker import holds
+from wirenames.papers import known_paper, one_paper, weaker_paper, weaker_rule
+from wirenames.scripts import gone_along
 
 PACKAGE = pathlib.Path(__file__).resolve().parent.parent / "wirenames"
 FILES = sorted(path for path in PACKAGE.rglob("*") if path.is_file() and "__pycache__" not in path.parts)
@@ -36,6 +42,10 @@ INTERFACE = {
     "names": "is_name next_name is_greater",
     "rules": "Bounds Rule claiming_time asking_time mending_time fits is_enough least_rule",
     "wires": "Wires",
+    "scripts": "gone_along",
+    "papers": "weaker_rule weaker_paper one_paper known_paper",
+    "looker": "holds",
+    "desk": "Desk",
 }
 WIRES = (
     "come go meet part claim drop ask ask_all tick hand_over lose way now hands_on claims_of who_holds doubles "
@@ -173,6 +183,41 @@ class Statements(unittest.TestCase):
             self.assertIsInstance(node.exc, ast.Call, stem)
             self.assertIsInstance(node.exc.func, ast.Name, stem)
 
+    def test_patterns_capture_names_that_mean_nothing_else(self):
+        for stem, owner in nodes(ast.FunctionDef):
+            matches = [node for node in ast.walk(owner) if isinstance(node, ast.Match)]
+            for case in [case for match in matches for case in match.cases]:
+                parts = list(ast.walk(case.pattern))
+                names = [part.name for part in parts if isinstance(part, (ast.MatchAs, ast.MatchStar)) and part.name]
+                self.assertEqual(len(names), len(set(names)), (stem, owner.name))
+                given = {arg.arg for arg in owner.args.args + owner.args.kwonlyargs}
+                stored = [node for node in ast.walk(owner) if isinstance(getattr(node, "ctx", None), ast.Store)]
+                bound = {node.id for node in stored if isinstance(node, ast.Name)}
+                self.assertEqual(set(names) & (given | bound), set(), (stem, owner.name))
+                for part in parts:
+                    self.assertNotIsInstance(part, (ast.MatchClass, ast.MatchMapping), stem)
+
+    def test_classes_that_compare_do_so_part_by_part(self):
+        """Else no literal may stand within the sequence of a pattern."""
+        for stem, node in nodes(ast.FunctionDef):
+            if node.name == "__eq__":
+                self.assertEqual([type(row) for row in node.body], [ast.Return], stem)
+                text = ast.unparse(node.body[0].value).replace(" and (", " and ").replace(")", "")
+                first, *parts = text.split(" and ")
+                self.assertRegex(first, r"\Aisinstance\(other, \w+\Z", stem)
+                for part in parts:
+                    self.assertRegex(part, r"\Aself\.(\w+) == other\.\1\Z", stem)
+
+    def test_no_two_files_import_from_each_other(self):
+        needs = {stem: set() for stem in trees()}
+        for stem, node in nodes(ast.ImportFrom):
+            needs[stem].add(node.module.partition(".")[2])
+        while needs:
+            free = [stem for stem in needs if not needs[stem] & set(needs)]
+            self.assertTrue(free, sorted(needs))
+            for stem in free:
+                del needs[stem]
+
     def test_no_annotations_and_no_decorators(self):
         for stem, node in nodes(ast.FunctionDef):
             self.assertIsNone(node.returns, stem)
@@ -190,10 +235,24 @@ class Interface(unittest.TestCase):
                 self.assertIn(name, defined, stem)
 
     def test_each_method_is_defined_in_its_class(self):
-        owner = [node for node in trees()["wires"].body if isinstance(node, ast.ClassDef)][0]
-        methods = {node.name for node in owner.body if isinstance(node, ast.FunctionDef)}
-        for name in WIRES:
-            self.assertIn(name, methods)
+        for stem, names in (("wires", WIRES), ("desk", ["__init__", "say"])):
+            owner = [node for node in trees()[stem].body if isinstance(node, ast.ClassDef)][0]
+            methods = {node.name for node in owner.body if isinstance(node, ast.FunctionDef)}
+            for name in names:
+                self.assertIn(name, methods)
+
+    def test_parameters_of_scripts_papers_the_looker_and_the_desk(self):
+        for call, wanted in (
+            (gone_along, "(bounds, rule, script)"),
+            (weaker_rule, "(bounds, word, *, gap=1)"),
+            (weaker_paper, "(bounds, word, *, gap=1)"),
+            (one_paper, "(wires)"),
+            (known_paper, "(wires, hand, name)"),
+            (holds, "(paper)"),
+            (Desk, "(bounds, rule)"),
+            (Desk.say, "(self, row)"),
+        ):
+            self.assertEqual(str(inspect.signature(call)), wanted, call.__name__)
 
 
 if __name__ == "__main__":

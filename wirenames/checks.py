@@ -29,3 +29,10 @@ def is_tries(thing):
 
 def is_gap(thing):
     return is_within(thing, 1, 5)
+
+
+def are_rising(things):
+    """Whether they are whole numbers, each greater than the one ahead of it."""
+    if not all([is_whole(thing) for thing in things]):
+        return False
+    return all([low < high for low, high in zip(things, things[1:])])
